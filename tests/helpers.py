@@ -1,0 +1,83 @@
+"""What several tests need: reckonings of their own, after the document's words, and made-up rules."""
+
+import itertools
+import random
+
+
+def kept_by(rules, number, setting):
+    """Whether a setting keeps a rule, straight after 1.2."""
+    rule = rules[number]
+    if rule[0] == "or":
+        return any(setting[abs(word) - 1] == int(word > 0) for word in rule[1])
+    if rule[0] == "few":
+        return sum(not kept_by(rules, ahead, setting) for ahead in rule[2]) <= rule[1]
+    return not kept_by(rules, rule[1], setting)
+
+
+def sure_by(rules, number, partial):
+    """What a rule is by a partial setting, straight after 1.4."""
+    rule = rules[number]
+    if rule[0] == "or":
+        marks = {(partial[abs(word) - 1], int(word > 0)) for word in rule[1]}
+        if any(mark == right for mark, right in marks):
+            return "kept"
+        return "open" if any(mark is None for mark, right in marks) else "broken"
+    if rule[0] == "few":
+        marks = [sure_by(rules, ahead, partial) for ahead in rule[2]]
+        if sum(mark == "broken" for mark in marks) > rule[1]:
+            return "broken"
+        return "kept" if sum(mark != "kept" for mark in marks) <= rule[1] else "open"
+    return {"kept": "broken", "broken": "kept", "open": "open"}[sure_by(rules, rule[1], partial)]
+
+
+def tree_by(rules, numbers, partial, tree):
+    """Whether a tree is right from a partial setting (a dict of names) on, straight after 2.1."""
+    n = len(partial)
+    if tree[0] == "broken":
+        marks = tuple(partial[name] for name in range(1, n + 1))
+        return tree[1] in numbers and sure_by(rules, tree[1], marks) == "broken"
+    _, name, no, yes = tree
+    if name not in partial or partial[name] is not None:
+        return False
+    return (tree_by(rules, numbers, {**partial, name: 0}, no)
+            and tree_by(rules, numbers, {**partial, name: 1}, yes))
+
+
+def open_names(n):
+    return {name: None for name in range(1, n + 1)}
+
+
+def settings_of(n):
+    return list(itertools.product((0, 1), repeat=n))
+
+
+def partials_of(n):
+    return list(itertools.product((0, 1, None), repeat=n))
+
+
+def settings_filling(partial):
+    """All settings that fill a partial one, sieved out of all settings there are."""
+    return [setting for setting in settings_of(len(partial))
+            if all(mark is None or mark == put for mark, put in zip(partial, setting))]
+
+
+def made_up_row(chance, n, at):
+    """A row that is a rule of n names at a place, its words or numbers in any order."""
+    kind = chance.choice(("or", "or", "few", "not")) if at else chance.choice(("or", "few"))
+    if kind == "or":
+        names = chance.sample(range(1, n + 1), chance.randint(0, min(n, 3)))
+        return ("or", tuple(chance.choice((name, -name)) for name in names))
+    if kind == "few":
+        numbers = chance.sample(range(at), chance.randint(0, min(at, 4)))
+        return ("few", chance.randint(0, 3), tuple(numbers))
+    return ("not", chance.randrange(at))
+
+
+def made_up_lists(seed, many, most_names=4, most_rules=7):
+    """Some (n, rows), the same for the same seed."""
+    chance = random.Random(seed)
+    told = []
+    for _ in range(many):
+        n = chance.randint(0, most_names)
+        told.append((n, [made_up_row(chance, n, at) for at in range(chance.randint(0, most_rules))]))
+    return told

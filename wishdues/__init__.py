@@ -1,0 +1,1 @@
+"""Wishdues: as many wishes kept as can be, each bound with a paper."""
