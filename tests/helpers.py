@@ -81,3 +81,45 @@ def made_up_lists(seed, many, most_names=4, most_rules=7):
         n = chance.randint(0, most_names)
         told.append((n, [made_up_row(chance, n, at) for at in range(chance.randint(0, most_rules))]))
     return told
+
+
+def settings_keeping(n, rules, numbers):
+    """All settings that keep all of these rules, gone through one by one."""
+    return [setting for setting in settings_of(n) if all(kept_by(rules, number, setting) for number in numbers)]
+
+
+def weighed_by(house, places):
+    """What some wishes weigh together, rank by rank, straight after 4.2."""
+    wishes = house[3]
+    return tuple(sum(wishes[place][2] for place in places if wishes[place][1] == rank)
+                 for rank in range(1, max([wish[1] for wish in wishes], default=0) + 1))
+
+
+def lost_by(house, setting):
+    """The places of the wishes whose rules a setting breaks."""
+    return tuple(place for place, wish in enumerate(house[3]) if not kept_by(house[1], wish[0], setting))
+
+
+def least_by(house):
+    """The least losses of all settings that keep the musts, or None where there is none."""
+    settings = settings_keeping(house[0], house[1], house[2])
+    return min([weighed_by(house, lost_by(house, setting)) for setting in settings], default=None)
+
+
+def made_up_parts(chance, many, most_musts):
+    """Some musts and further ones, two rising tuples without a common number."""
+    musts = chance.sample(range(many), chance.randint(0, min(many, most_musts)))
+    others = [number for number in range(many) if number not in musts and chance.random() < 0.8]
+    return tuple(sorted(musts)), tuple(others)
+
+
+def made_up_houses(seed, many, most_names=4, most_rules=7, most_wishes=8, most_weight=4):
+    """Some (n, rows, musts, wishes), the same for the same seed."""
+    chance = random.Random(seed)
+    told = []
+    for n, rows in made_up_lists(seed, many, most_names, most_rules):
+        musts = chance.sample(range(len(rows)), chance.randint(0, min(len(rows), 3)))
+        wishes = [(chance.randrange(len(rows)), chance.randint(1, 4), chance.randint(1, most_weight))
+                  for _ in range(chance.randint(0, most_wishes) if rows else 0)]
+        told.append((n, rows, musts, wishes))
+    return told

@@ -18,6 +18,11 @@ def is_row(thing):
     return isinstance(thing, (list, tuple))
 
 
+def is_rising(numbers):
+    """Whether each number of a row is greater than the one ahead of it."""
+    return all([numbers[at - 1] < numbers[at] for at in range(1, len(numbers))])
+
+
 def has_twice(things):
     """Whether a thing stands more than once in a row of numbers."""
     return len(set(things)) < len(things)
@@ -101,12 +106,30 @@ def rule_kept(rule, kept, setting):
     return not kept[rule[1]]
 
 
+def kept_beyond(rules, kept, setting):
+    """For each rule whether a setting keeps it, kept telling it of the first ones."""
+    told = list(kept)
+    for rule in rules[len(kept):]:
+        told.append(rule_kept(rule, told, setting))
+    return told
+
+
 def rules_kept(rules, setting):
     """For each rule whether a setting keeps it."""
-    kept = []
-    for rule in rules:
-        kept.append(rule_kept(rule, kept, setting))
-    return kept
+    return kept_beyond(rules, [], setting)
+
+
+def keeps_all(rules, numbers, setting):
+    """Whether a setting keeps all of these rules."""
+    kept = rules_kept(rules, setting)
+    return all([kept[number] for number in numbers])
+
+
+def setting_right(n, rules, numbers, marks):
+    """Whether a tuple of whole numbers is a setting of n names that keeps all of these rules."""
+    if len(marks) != n or not all([mark in (0, 1) for mark in marks]):
+        return False
+    return keeps_all(rules, numbers, marks)
 
 
 def or_sure(words, partial):

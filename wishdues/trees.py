@@ -1,6 +1,11 @@
 """Clashes of rules, and the trees of cases that show them."""
 
-from wishdues.rules import all_fillings, rules_kept, rules_sure
+from wishdues.rules import all_fillings, keeps_all, rules_sure
+
+
+def together(numbers, others):
+    """The rising tuple of the numbers of both rows, each once."""
+    return tuple(sorted(set([*numbers, *others])))
 
 
 def with_name(partial, name, mark):
@@ -65,12 +70,7 @@ def kept_together(n, rules, numbers):
 
 def kept_settings(n, rules, numbers):
     """The rising list of all settings that keep all of these rules."""
-    settings = []
-    for setting in all_fillings((None,) * n):
-        kept = rules_kept(rules, setting)
-        if all([kept[number] for number in numbers]):
-            settings.append(setting)
-    return settings
+    return [setting for setting in all_fillings((None,) * n) if keeps_all(rules, numbers, setting)]
 
 
 def told_broken(tree):
