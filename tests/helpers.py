@@ -123,3 +123,13 @@ def made_up_houses(seed, many, most_names=4, most_rules=7, most_wishes=8, most_w
                   for _ in range(chance.randint(0, most_wishes) if rows else 0)]
         told.append((n, rows, musts, wishes))
     return told
+
+
+def owed_by(rules, dues, setting):
+    """What a setting loses by dues, straight after 7.1."""
+    return sum(weight for number, weight in dues if not kept_by(rules, number, setting))
+
+
+def made_up_dues(chance, many, most_weight):
+    """Dues of some of so many rules."""
+    return [(number, chance.randint(1, most_weight)) for number in range(many) if chance.random() < 0.8]
