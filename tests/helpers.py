@@ -3,6 +3,8 @@
 import itertools
 import random
 
+from wishdues.turning import turned_dues
+
 
 def kept_by(rules, number, setting):
     """Whether a setting keeps a rule, straight after 1.2."""
@@ -133,3 +135,41 @@ def owed_by(rules, dues, setting):
 def made_up_dues(chance, many, most_weight):
     """Dues of some of so many rules."""
     return [(number, chance.randint(1, most_weight)) for number in range(many) if chance.random() < 0.8]
+
+
+def gone_by(n, rules, musts, dues, steps):
+    """(paid, rules, dues) behind steps, or None where one isn't right, after 7.4, turning being judged elsewhere."""
+    total = 0
+    for some, tree in steps:
+        if not some or list(some) != sorted(set(some)) or not set(some) <= set(dict(dues)):
+            return None
+        if not tree_by(rules, {*musts, *some}, open_names(n), tree):
+            return None
+        paid, rules, dues = turned_dues(rules, dues, some)
+        total += paid
+    return total, rules, dues
+
+
+def best_by(house):
+    """All settings that keep the musts and lose least, gone through one by one."""
+    least = least_by(house)
+    return [setting for setting in settings_keeping(house[0], house[1], house[2])
+            if weighed_by(house, lost_by(house, setting)) == least]
+
+
+def poured_loss(pot, setting):
+    """What a setting loses by a pot, straight after 9.1."""
+    return sum(weight for words, weight in pot if not any(setting[abs(word) - 1] == int(word > 0) for word in words))
+
+
+def made_up_words(chance, n, most):
+    """A rising tuple of words of unlike names."""
+    names = chance.sample(range(1, n + 1), chance.randint(0, min(n, most)))
+    return tuple(sorted(chance.choice((name, -name)) for name in names))
+
+
+def made_up_pot(chance, n, many, most_weight):
+    """A pot of at most so many tuples."""
+    words = {made_up_words(chance, n, chance.randint(1, n)) or (chance.choice((-n, n)),) for _ in range(many)}
+    words |= {()} if chance.random() < 0.3 and len(words) < many else set()
+    return [(some, chance.randint(1, most_weight)) for some in sorted(words)]

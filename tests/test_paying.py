@@ -4,11 +4,11 @@ import copy
 import random
 import unittest
 
-from tests.helpers import (kept_by, made_up_dues, made_up_lists, open_names, owed_by, settings_keeping, settings_of,
-                           tree_by)
+from tests.helpers import (gone_by, kept_by, made_up_dues, made_up_lists, open_names, owed_by, settings_keeping,
+                           settings_of, tree_by)
 from wishdues.paying import paid_dues, paid_right
 from wishdues.rules import made_rules
-from wishdues.turning import dues_after, turned_dues
+from wishdues.turning import dues_after
 
 GREAT = int("9" * 60)
 # Yes of three names, each with a due, but a must that at most one of them is yes.
@@ -33,19 +33,12 @@ def keeping_best(n, rules, musts, dues):
 
 
 def right_by(n, rules, musts, dues, told):
-    """Whether a told tuple is right, straight after 7.4, the turning being judged elsewhere."""
+    """Whether a told tuple is right, straight after 7.4."""
     if told[0] == "never":
         return tree_by(rules, musts, open_names(n), told[1])
     _, paid, steps, setting = told
-    total = 0
-    for some, tree in steps:
-        if not some or list(some) != sorted(set(some)) or not set(some) <= set(dict(dues)):
-            return False
-        if not tree_by(rules, {*musts, *some}, open_names(n), tree):
-            return False
-        one, rules, dues = turned_dues(rules, dues, some)
-        total += one
-    return total == paid and setting in settings_keeping(n, rules, [*musts, *dict(dues)])
+    left = gone_by(n, rules, musts, dues, steps)
+    return left is not None and left[0] == paid and setting in settings_keeping(n, left[1], [*musts, *dict(left[2])])
 
 
 class PaidDues(unittest.TestCase):

@@ -50,10 +50,15 @@ def made_house(n, rows, musts, wishes):
     return n, rules, made_musts(rules, musts), made_wishes(rules, wishes)
 
 
+def greatest_rank(wishes):
+    """The greatest rank that a wish has, 0 without wishes."""
+    return max([rank for number, rank, weight in wishes], default=0)
+
+
 def wishes_losses(house, places):
     """What these wishes weigh together, rank by rank."""
     n, rules, musts, wishes = house
-    losses = [0] * max([rank for number, rank, weight in wishes], default=0)
+    losses = [0] * greatest_rank(wishes)
     for place in places:
         number, rank, weight = wishes[place]
         losses[rank - 1] += weight

@@ -36,16 +36,25 @@ def paid_dues(n, rules, musts, dues):
         table = [(setting, kept_beyond(rules, kept, setting)) for setting, kept in table]
 
 
-def steps_right(n, rules, musts, dues, told):
-    """Whether a tuple of the form of paid dues is right."""
-    word, told_paid, steps, setting = told
+def left_by(n, rules, musts, dues, steps):
+    """What is paid by steps, and the rules and dues behind them, or None where one of them isn't right."""
     total = 0
     for numbers, tree in steps:
         if not can_turn(rules, dues, numbers) or not tree_right(n, rules, together(musts, numbers), tree):
-            return False
+            return None
         paid, rules, dues = turned(rules, dues, numbers)
         total += paid
-    return total == told_paid and setting_right(n, rules, together(musts, due_numbers(dues)), setting)
+    return total, rules, dues
+
+
+def steps_right(n, rules, musts, dues, told):
+    """Whether a tuple of the form of paid dues is right."""
+    word, told_paid, steps, setting = told
+    left = left_by(n, rules, musts, dues, steps)
+    if left is None:
+        return False
+    paid, rules, dues = left
+    return paid == told_paid and setting_right(n, rules, together(musts, due_numbers(dues)), setting)
 
 
 def paid_right(n, rules, musts, dues, told):
