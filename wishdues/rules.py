@@ -24,7 +24,7 @@ def is_rising(numbers):
 
 
 def has_twice(things):
-    """Whether a thing stands more than once in a row of numbers or of tuples of them."""
+    """Whether a thing stands more than once in a row of numbers, of texts or of tuples of numbers."""
     return len(set(things)) < len(things)
 
 
