@@ -77,7 +77,7 @@ def best_rules(house, rows):
 def rank_factors(wishes):
     """By ranks, factors by which one of a rank weighs more than all of the ranks behind together."""
     factors, behind = {}, 0
-    for rank in reversed(range(1, greatest_rank(wishes) + 1)):
+    for rank in range(greatest_rank(wishes), 0, -1):
         factors[rank] = behind + 1
         behind += sum([weight * factors[rank] for number, own_rank, weight in wishes if own_rank == rank])
     return factors
