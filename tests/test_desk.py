@@ -60,9 +60,10 @@ class Desk(unittest.TestCase):
                   ("not 2", "3"), ("few 1 0 3", "4"), ("must 0", "ok"), ("must 1", "ok"), ("best", ": bob"),
                   ("rows", "0"), ("says", "both both both"), ("wish 2 2 3", "0"), ("best", "0 0 : bob cy"),
                   ("says", "both both yes"), ("wish 3 1 7", "1"), ("best", "0 3 : bob"), ("rows", "1"),
-                  ("says", "both both no"), ("near ann -bob cy", "1 : ann"), ("near ann bob cy", "2 : bob"), ("drop 1", "ok"),
-                  ("rows", "0"), ("best", "0 0 : bob cy"), ("undo", "ok"), ("rows", "1"), ("best", "0 3 : bob"), ("free 1", "ok"),
-                  ("best", "0 3 : bob"), ("near ann bob -cy", "0 : ann bob"))
+                  ("says", "both both no"), ("near ann -bob cy", "1 : ann"), ("near ann bob cy", "2 : bob"),
+                  ("drop 1", "ok"), ("rows", "0"), ("best", "0 0 : bob cy"), ("undo", "ok"), ("rows", "1"),
+                  ("best", "0 3 : bob"), ("free 1", "ok"), ("best", "0 3 : bob"),
+                  ("near ann bob -cy", "0 : ann bob"))
 
     def test_rules(self):
         self.told(("names ann bob", "ok"), ("or", "0"), ("or -bob ann", "1"), ("or ann -bob", "2"), ("few 0", "3"),
